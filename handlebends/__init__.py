@@ -1,0 +1,1 @@
+"""Curves drawn by handles, exactly, in fractions."""

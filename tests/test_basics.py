@@ -1,0 +1,141 @@
+"""[1], [2] and [3]: what holds for all of the package."""
+
+import unittest
+
+from handlebends import bends, errors, pieces
+from handlebends.bends import Bend, homes, reach, value, weights
+from handlebends.pieces import from_pieces, smoothness
+
+import support
+
+
+class Names(unittest.TestCase):
+    def test_arguments_by_name_in_another_order(self):
+        bend = Bend(handles=[0, 1, 0], marks=[0, 1, 2], degree=1)
+        self.assertEqual(bend, Bend(1, [0, 1, 2], [0, 1, 0]))
+        self.assertEqual(Bend(1, handles=[0, 1, 0], marks=[0, 1, 2]), bend)
+        self.assertEqual(Bend.read(text=str(bend)), bend)
+        self.assertEqual(value(time=(3, 2), bend=bend), (1, 2))
+        self.assertEqual(weights(time=(1, 2), marks=[0, 1], degree=1), ((1, 2), (1, 2)))
+        self.assertEqual(reach(i=0, marks=[0, 1, 2], degree=2), ((0, 1), (1, 1)))
+        self.assertEqual(homes(bend=bend), ((0, 1), (1, 1), (2, 1)))
+        self.assertEqual(from_pieces(rows=pieces.pieces(bend=bend)), bend)
+        self.assertEqual(smoothness(time=1, bend=bend), 0)
+
+
+class Unchanged(unittest.TestCase):
+    def test_lists_changed_behind_the_call(self):
+        marks, handles = [0, (1, 2), 1], [3, 4, (5, 2)]
+        bend = Bend(1, marks, handles)
+        text = str(bend)
+        marks[1], handles[0] = (2, 3), 9
+        marks.append(7)
+        handles.clear()
+        self.assertEqual(str(bend), text)
+        self.assertEqual(value(bend, (1, 2)), (4, 1))
+
+    def test_rows_changed_behind_the_call(self):
+        powers = [0, 1]
+        rows = [(0, 1, powers), (1, 2, [2, -1])]
+        bend = from_pieces(rows)
+        powers[0] = 5
+        rows.pop()
+        self.assertEqual(bend, Bend(1, [0, 1, 2], [0, 1, 0]))
+
+    def test_arguments_are_not_changed(self):
+        marks, handles, rows = [0, 1, (3, 2), 2], [1, (2, 3), -3, 4], [(0, 1, [0, 1, 0]), (1, 2, [2, -1])]
+        kept = repr((marks, handles, rows))
+        bend = Bend(1, marks, handles)
+        text = str(bend)
+        value(bend, 1), weights(1, marks, 1), reach(1, marks, 1), homes(bend)
+        pieces.pieces(bend), from_pieces(rows), smoothness(bend, 1)
+        self.assertEqual(repr((marks, handles, rows)), kept)
+        self.assertEqual(str(bend), text)
+
+    def test_wrong_arguments_are_not_changed(self):
+        for make in (lambda thing: Bend(1, thing, [0]), lambda thing: from_pieces(thing), Bend.read):
+            for thing in support.no_sequences_of_values():
+                kept = repr(thing)
+                with self.assertRaises(errors.BendError):
+                    make(thing)
+                self.assertEqual(repr(thing), kept)
+
+    def test_same_call_same_result(self):
+        some = support.many_bends()[::9]
+        def asked():
+            return [(value(bend, bend.marks[0]), weights(bend.degree, bend.marks, bend.marks[-1]), homes(bend),
+                     reach(bend.degree, bend.marks, 0), pieces.pieces(bend), str(from_pieces(pieces.pieces(bend))),
+                     Bend.read(str(bend)) == bend) for bend in some]
+        first = asked()
+        for bend in some[::-1]:
+            with self.assertRaises(errors.InvalidTime):
+                smoothness(bend, None)
+            value(bend, bend.marks[-1])
+        self.assertEqual(asked(), first)
+
+
+class Kinds(unittest.TestCase):
+    def check_plain(self, thing):
+        self.assertIn(type(thing), (tuple, int))
+        if isinstance(thing, tuple):
+            for part in thing:
+                self.check_plain(part)
+
+    def test_sequences_that_are_returned_are_tuples(self):
+        for bend in support.many_bends()[::4]:
+            for thing in (bend.marks, bend.handles, homes(bend), weights(bend.degree, list(bend.marks), bend.marks[0]),
+                          reach(bend.degree, list(bend.marks), 0), pieces.pieces(bend), value(bend, bend.marks[0])):
+                self.check_plain(thing)
+            self.check_plain(from_pieces(list(pieces.pieces(bend))).handles)
+
+    def test_not_iterable(self):
+        for thing in (Bend(1, [0, 1], [0, 1]), errors.Unlike(), errors.InvalidBend([1, 2]), errors.InvalidTime("ab")):
+            for ask in (iter, list, tuple, sorted, lambda it: [*it], lambda it: 1 in it):
+                with self.assertRaises(TypeError):
+                    ask(thing)
+
+    def test_nothing_else_is_a_sequence(self):
+        for kind in (range(2), {0: 1, 1: 2}, "01", iter([0, 1])):
+            with self.assertRaises(errors.InvalidBend) as caught:
+                Bend(1, kind, [0, 1])
+            self.assertEqual(caught.exception.word, "marks")
+            with self.assertRaises(errors.InvalidBend) as caught:
+                Bend(1, [0, 1], kind)
+            self.assertEqual(caught.exception.word, "handles")
+
+
+class Limits(unittest.TestCase):
+    def test_at_the_limits(self):
+        marks = [-9999, (-9998, 9999), (1, 9998), (9997, 9998), 9999]
+        bend = Bend(4, marks, [(9999, 9998), -9999, (1, 9999), 0, 9999, (-9998, 9997), 7, (5, 9999)])
+        for time in ((999999999, 999999998), (-123456789, 987654322), (1, 999999999), 9999):
+            t = support.frac(time)
+            self.assertEqual(value(bend, time), support.pair_of(support.curve(bend, t)))
+        self.assertEqual(from_pieces(pieces.pieces(bend)), bend)
+        self.assertEqual(Bend.read(str(bend)), bend)
+
+    def test_what_was_returned_is_passed_on(self):
+        hill, time = Bend(2, [0, 1], [0, 2, 0]), (2, 7)
+        for _ in range(12):
+            time = value(hill, time)
+        self.assertGreater(time[1], 10 ** 3000)
+        t = support.frac(time)
+        bend = Bend(2, [0, time, 1], [0, time, 1, time])
+        self.assertEqual(homes(bend)[1], support.pair_of(t / 2))
+        self.assertEqual(value(bend, time), support.pair_of(support.curve(bend, t)))
+        self.assertEqual(smoothness(bend, time), 1)
+        self.assertEqual(from_pieces(pieces.pieces(bend)), bend)
+        longer = value(hill, time)
+        self.assertGreater(longer[1], 10 ** 4300)
+        self.assertEqual(str(Bend(0, [0, 1], [longer])).count("/"), 1)
+
+    def test_high_degrees(self):
+        degree = 12
+        bend = Bend(degree, [0, 1, 3], [(-1) ** k * k for k in range(degree + 2)])
+        for t in support.asked_times(bend.marks)[::3]:
+            self.assertEqual(value(bend, support.pair_of(t)), support.pair_of(support.curve(bend, t)))
+        self.assertEqual(from_pieces(pieces.pieces(bend)), bend)
+
+
+if __name__ == "__main__":
+    unittest.main()

@@ -1,0 +1,43 @@
+"""The examples of the document, as far as the modules go, and those of README.md."""
+
+import doctest
+import pathlib
+import unittest
+
+from handlebends.bends import Bend, homes, reach, value, weights
+from handlebends.pieces import from_pieces, pieces, smoothness
+
+NOUGHT, DIP = Bend(0, [0, 2], [0]), Bend(2, [0, 2], [2, -1, 2])
+TOUCH, DEEP = Bend(2, [0, 2], [1, -1, 1]), Bend(2, [0, 2], [1, -3, 1])
+TENT = Bend(1, [0, 1, 2], [0, 1, 0])
+
+
+class Examples(unittest.TestCase):
+    def test_overview(self):
+        self.assertEqual([value(DIP, time) for time in (0, (1, 2), 1, 2)], [(2, 1), (7, 8), (1, 2), (2, 1)])
+        self.assertEqual([value(NOUGHT, time) for time in (0, 1, 2)], [(0, 1)] * 3)
+        self.assertEqual([value(TOUCH, time) for time in (0, (1, 2), 1, 2)], [(1, 1), (1, 4), (0, 1), (1, 1)])
+        self.assertEqual(value(DEEP, 1), (-1, 1))
+
+    def test_bends(self):
+        self.assertEqual(
+            (str(TOUCH), homes(TOUCH), weights(2, [0, 1, 2], (1, 2)), reach(2, [0, 1, 2], 0), value(TENT, (3, 2))),
+            ("bend 2 marks 0 2 handles 1 -1 1", ((0, 1), (1, 1), (2, 1)), ((1, 4), (5, 8), (1, 8), (0, 1)),
+             ((0, 1), (1, 1)), (1, 2)))
+
+    def test_pieces(self):
+        marked = Bend(2, [0, 1, 2], [1, 0, 0, 1])
+        self.assertEqual(
+            (pieces(TOUCH), from_pieces(pieces(TENT)) == TENT, smoothness(TENT, 1), smoothness(marked, 1)),
+            ((((0, 1), (2, 1), ((1, 1), (-2, 1), (1, 1))),), True, 0, None))
+        self.assertEqual(from_pieces(pieces(marked)), TOUCH)
+
+    def test_readme(self):
+        readme = pathlib.Path(__file__).resolve().parent.parent / "README.md"
+        failed, tried = doctest.testfile(str(readme), module_relative=False)
+        self.assertEqual(failed, 0)
+        self.assertGreater(tried, 0)
+
+
+if __name__ == "__main__":
+    unittest.main()

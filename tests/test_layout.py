@@ -1,0 +1,110 @@
+"""The interface at the end of the document, and the plainest rules for the files of the package."""
+
+import ast
+import importlib
+import inspect
+import pathlib
+import unittest
+import warnings
+
+PACKAGE = pathlib.Path(__file__).resolve().parent.parent / "handlebends"
+
+INTERFACE = {
+    "errors": {"BendError": None, "InvalidBend": ["word"], "InvalidText": ["at"], "InvalidTime": ["time"],
+               "InvalidPieces": ["at"], "InvalidPoints": ["at"], "InvalidCommand": [], "Unlike": [], "Kink": ["time"],
+               "NoMark": ["time"], "Refused": ["at"]},
+    "bends": {"Bend": ["degree", "marks", "handles"], "value": ["bend", "time"],
+              "weights": ["degree", "marks", "time"], "reach": ["degree", "marks", "i"], "homes": ["bend"]},
+    "pieces": {"pieces": ["bend"], "from_pieces": ["rows"], "smoothness": ["bend", "time"]},
+}
+METHODS = {("bends", "Bend"): ["__init__", "read", "__len__", "__eq__", "__str__"]}
+LIBRARY = {"math": {"gcd", "lcm", "isqrt", "comb", "perm", "factorial"}}
+
+
+def trees():
+    """The files of the package and what they say."""
+    return {path: ast.parse(path.read_text("utf-8")) for path in sorted(PACKAGE.glob("*.py"))}
+
+
+class Interface(unittest.TestCase):
+    def test_defined_in_its_file(self):
+        for module, names in INTERFACE.items():
+            tree = ast.parse((PACKAGE / f"{module}.py").read_text("utf-8"))
+            defined = [node.name for node in tree.body if isinstance(node, (ast.FunctionDef, ast.ClassDef))]
+            for name in names:
+                self.assertEqual(defined.count(name), 1, name)
+
+    def test_arguments(self):
+        for module, names in INTERFACE.items():
+            held = importlib.import_module(f"handlebends.{module}")
+            for name, parameters in names.items():
+                if parameters is not None:
+                    found = inspect.signature(getattr(held, name)).parameters
+                    self.assertEqual(list(found), parameters, name)
+
+    def test_methods_stand_in_the_class_itself(self):
+        for (module, name), methods in METHODS.items():
+            held = vars(getattr(importlib.import_module(f"handlebends.{module}"), name))
+            for method in methods:
+                self.assertIn(method, held)
+        bend = importlib.import_module("handlebends.bends").Bend
+        self.assertIsInstance(vars(bend)["read"], classmethod)
+        self.assertEqual(list(inspect.signature(bend.read).parameters), ["text"])
+
+    def test_init_holds_a_docstring_only(self):
+        body = ast.parse((PACKAGE / "__init__.py").read_text("utf-8")).body
+        self.assertEqual(len(body), 1)
+        self.assertIsInstance(body[0].value.value, str)
+
+
+class Rules(unittest.TestCase):
+    def test_folder(self):
+        found = [path.name for path in PACKAGE.iterdir() if path.name != "__pycache__"]
+        self.assertTrue(all(name.endswith(".py") for name in found), found)
+
+    def test_sizes_and_characters(self):
+        for path, tree in trees().items():
+            text = path.read_text("utf-8")
+            self.assertTrue(all(char == "\n" or " " <= char <= "~" for char in text), path)
+            self.assertLessEqual(len(text.splitlines()), 399, path)
+            self.assertLessEqual(max(map(len, text.splitlines())), 120, path)
+            for node in ast.walk(tree):
+                if isinstance(node, ast.FunctionDef):
+                    self.assertLessEqual(node.end_lineno - node.lineno + 1, 40, node.name)
+
+    def test_imports(self):
+        for path, tree in trees().items():
+            for node in ast.walk(tree):
+                self.assertNotIsInstance(node, ast.Import, path)
+                if isinstance(node, ast.ImportFrom):
+                    names = {alias.name for alias in node.names}
+                    self.assertTrue(all(alias.asname is None for alias in node.names), path)
+                    if node.module in LIBRARY:
+                        self.assertLessEqual(names, LIBRARY[node.module], path)
+                    else:
+                        self.check_own_import(node.module, names)
+
+    def check_own_import(self, module, names):
+        folder, file = module.split(".")
+        self.assertEqual(folder, "handlebends")
+        body = ast.parse((PACKAGE / f"{file}.py").read_text("utf-8")).body
+        defined = {node.name for node in body if isinstance(node, (ast.FunctionDef, ast.ClassDef))}
+        defined |= {target.id for node in body if isinstance(node, ast.Assign) for target in node.targets}
+        self.assertLessEqual(names, defined)
+
+    def test_no_warnings(self):
+        with warnings.catch_warnings():
+            warnings.simplefilter("error")
+            for path in trees():
+                compile(path.read_text("utf-8"), str(path), "exec")
+
+    def test_no_floats_and_no_state(self):
+        for path, tree in trees().items():
+            for node in ast.walk(tree):
+                self.assertNotIsInstance(node, (ast.Div, ast.Global, ast.GeneratorExp), path)
+                if isinstance(node, ast.Constant):
+                    self.assertNotIsInstance(node.value, (float, complex), path)
+
+
+if __name__ == "__main__":
+    unittest.main()
