@@ -23,10 +23,25 @@ def power_slope(powers):
     return [multiplied(powers[k], (k, 1)) for k in range(1, len(powers))]
 
 
+def power_sum(one, other):
+    """Return two polynomials together."""
+    size = max(len(one), len(other))
+    return [added(a, b) for a, b in zip(_filled(one, size), _filled(other, size))]
+
+
 def power_difference(one, other):
     """Return one polynomial less another one."""
     size = max(len(one), len(other))
     return [taken(a, b) for a, b in zip(_filled(one, size), _filled(other, size))]
+
+
+def power_product(one, other):
+    """Return the product of two polynomials."""
+    result = [ZERO] * (len(one) + len(other) - 1)
+    for i, a in enumerate(one):
+        for j, b in enumerate(other):
+            result[i + j] = added(result[i + j], multiplied(a, b))
+    return result
 
 
 def _filled(powers, size):

@@ -78,9 +78,21 @@ def total(worths):
     return result
 
 
+def halfway(a, b):
+    """Return the middle between a and b."""
+    return ratio(a[0] * b[1] + b[0] * a[1], 2 * a[1] * b[1])
+
+
 def is_less(a, b):
     """Tell whether a < b."""
     return a[0] * b[1] < b[0] * a[1]
+
+
+def sign_of(n):
+    """Return the sign of an integer."""
+    if n == 0:
+        return 0
+    return 1 if n > 0 else -1
 
 
 def _tell_whole(n):

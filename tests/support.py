@@ -5,6 +5,7 @@ from functools import lru_cache
 
 from handlebends.bends import Bend
 from handlebends.errors import InvalidBend, Unlike
+from handlebends.pieces import pieces
 
 
 def deep(many):
@@ -52,23 +53,30 @@ def knots(degree, marks):
     return [row[0]] * (degree + 1) + row[1:-1] + [row[-1]] * (degree + 1)
 
 
-def weight(u, i, degree, t):
-    """The weight with a number and degree, word for word as [6] has it."""
+def weight(u, i, degree, t, known):
+    """The weight with a number and degree, word for word as [6] has it; `known` keeps those of this time."""
+    if (i, degree) not in known:
+        known[i, degree] = _weight(u, i, degree, t, known)
+    return known[i, degree]
+
+
+def _weight(u, i, degree, t, known):
     if degree == 0:
         last = max(k for k in range(len(u) - 1) if u[k] < u[k + 1])
         return Fraction(int(u[i] <= t < u[i + 1] or (i == last and t == u[-1])))
     result = Fraction(0)
     if u[i + degree] != u[i]:
-        result += weight(u, i, degree - 1, t) * (t - u[i]) / (u[i + degree] - u[i])
+        result += weight(u, i, degree - 1, t, known) * (t - u[i]) / (u[i + degree] - u[i])
     if u[i + degree + 1] != u[i + 1]:
-        result += weight(u, i + 1, degree - 1, t) * (u[i + degree + 1] - t) / (u[i + degree + 1] - u[i + 1])
+        part = weight(u, i + 1, degree - 1, t, known)
+        result += part * (u[i + degree + 1] - t) / (u[i + degree + 1] - u[i + 1])
     return result
 
 
 @lru_cache(maxsize=None)
 def _kept_weights(degree, marks, t):
-    u = knots(degree, marks)
-    return [weight(u, i, degree, t) for i in range(degree + len(marks) - 1)]
+    u, known = knots(degree, marks), {}
+    return [weight(u, i, degree, t, known) for i in range(degree + len(marks) - 1)]
 
 
 def all_weights(degree, marks, t):
@@ -94,6 +102,36 @@ def slopes(powers, t):
         row = [k * worth for k, worth in enumerate(row)][1:]
         found.append(sum(worth * t ** k for k, worth in enumerate(row)))
     return found
+
+
+def agreeing(left, right, t):
+    """How many first slopes of two polynomials agree at a time, None if all do."""
+    many = max(len(left), len(right))
+    both = zip((slopes(left, t) + [0] * many)[:many], (slopes(right, t) + [0] * many)[:many])
+    return next((k for k, (a, b) in enumerate(both) if a != b), None)
+
+
+def least_marks(rows):
+    """The degree and the marks of the least form of pieces, by [10]."""
+    degree = max([k for row in rows for k, worth in enumerate(row[2]) if frac(worth)], default=0)
+    marks = [frac(rows[0][0])]
+    for early, late in zip(rows, rows[1:]):
+        many = agreeing(early[2], late[2], frac(late[0]))
+        marks += [frac(late[0])] * (0 if many is None else degree - many)
+    return degree, tuple(pair_of(mark) for mark in marks + [frac(rows[-1][1])])
+
+
+def in_least_form(bend):
+    """Whether a bend has the degree and the marks of its least form, by [10]."""
+    return (bend.degree, bend.marks) == least_marks(pieces(bend))
+
+
+def shared_times(*bends):
+    """Times of one stretch: curves of these degrees with these marks are the same if they agree at all of them."""
+    row = sorted({frac(mark) for bend in bends for mark in bend.marks})
+    many = max(bend.degree for bend in bends) + 1
+    return sorted({early + (late - early) * Fraction(k, many)
+                   for early, late in zip(row, row[1:]) for k in range(many + 1)})
 
 
 def asked_times(marks):

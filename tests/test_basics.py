@@ -2,7 +2,7 @@
 
 import unittest
 
-from handlebends import bends, errors, pieces
+from handlebends import errors, marks, pieces, sums, zeros
 from handlebends.bends import Bend, homes, reach, value, weights
 from handlebends.pieces import from_pieces, smoothness
 
@@ -21,6 +21,39 @@ class Names(unittest.TestCase):
         self.assertEqual(homes(bend=bend), ((0, 1), (1, 1), (2, 1)))
         self.assertEqual(from_pieces(rows=pieces.pieces(bend=bend)), bend)
         self.assertEqual(smoothness(time=1, bend=bend), 0)
+
+
+    def test_marks_sums_and_zeros(self):
+        bend, line = Bend(2, [0, 1, 2], [1, 0, 0, 1]), Bend(1, [0, 2], [-1, 1])
+        for module, names in ((marks, ("raised", "lowered", "least")), (sums, ("slope", "area", "area_to")),
+                              (zeros, ("sign_row", "crossings", "touches", "places"))):
+            for name in names:
+                ask = getattr(module, name)
+                self.assertEqual(ask(bend=bend), ask(bend))
+        for module, names in ((marks, ("same",)), (sums, ("plus", "minus", "product"))):
+            for name in names:
+                ask = getattr(module, name)
+                self.assertEqual(ask(q=line, p=bend), ask(bend, line))
+        self.assertNotEqual(sums.minus(q=line, p=bend), sums.minus(p=line, q=bend))
+        left, right = marks.cut(time=1, bend=bend)
+        self.assertEqual(marks.joined(q=right, p=left), marks.least(bend))
+        self.assertEqual(marks.with_mark(time=(1, 2), bend=bend), marks.with_mark(bend, (1, 2)))
+        self.assertEqual(marks.without_mark(time=1, bend=bend), marks.without_mark(bend, 1))
+        self.assertEqual(sums.scaled(number=2, bend=bend), sums.scaled(bend, (2, 1)))
+        self.assertIs(zeros.places_hold(value=((1, 1),), bend=bend), True)
+        self.assertEqual(zeros.first_zero(near=(1, 5), bend=bend), zeros.first_zero(bend, (1, 5)))
+
+
+def all_asked(bend, other):
+    """What the functions of marks, sums and zeros tell of a bend and another one over its stretch."""
+    middle = support.pair_of((support.frac(bend.marks[0]) + support.frac(bend.marks[-1])) / 2)
+    found = [marks.raised(bend), marks.lowered(bend), marks.least(bend), *marks.cut(bend, middle), sums.area_to(bend),
+             sums.plus(bend, other), sums.minus(bend, other), sums.product(bend, other), sums.scaled(bend, (2, 3))]
+    if bend.marks.count(middle) < bend.degree:
+        found += [marks.with_mark(bend, middle), marks.without_mark(marks.with_mark(bend, middle), middle)]
+    told = [marks.same(bend, other), sums.area(bend), zeros.sign_row(bend), zeros.crossings(bend), zeros.touches(bend),
+            zeros.places(bend), zeros.places_hold(bend, zeros.places(bend)), zeros.first_zero(bend, (1, 9))]
+    return [str(part) for part in found], told
 
 
 class Unchanged(unittest.TestCase):
@@ -51,6 +84,22 @@ class Unchanged(unittest.TestCase):
         pieces.pieces(bend), from_pieces(rows), smoothness(bend, 1)
         self.assertEqual(repr((marks, handles, rows)), kept)
         self.assertEqual(str(bend), text)
+
+    def test_bends_are_not_changed(self):
+        for bend in support.many_bends()[::7]:
+            other = Bend(1, [bend.marks[0], bend.marks[-1]], [1, -1])
+            kept = str(bend), str(other), repr(bend.marks), repr(bend.handles)
+            first = all_asked(bend, other)
+            self.assertEqual((str(bend), str(other), repr(bend.marks), repr(bend.handles)), kept)
+            all_asked(other, bend)
+            self.assertEqual(all_asked(bend, other), first)
+
+    def test_papers_are_not_changed(self):
+        bend = Bend(1, [0, 2], [-1, 1])
+        for paper in ([[0, 2]], ([0, 2],), [((0, 1), (2, 1))], [], [[], [None]]):
+            kept = repr(paper)
+            self.assertIs(zeros.places_hold(bend, paper), False)
+            self.assertEqual(repr(paper), kept)
 
     def test_wrong_arguments_are_not_changed(self):
         for make in (lambda thing: Bend(1, thing, [0]), lambda thing: from_pieces(thing), Bend.read):
@@ -87,6 +136,10 @@ class Kinds(unittest.TestCase):
                           reach(bend.degree, list(bend.marks), 0), pieces.pieces(bend), value(bend, bend.marks[0])):
                 self.check_plain(thing)
             self.check_plain(from_pieces(list(pieces.pieces(bend))).handles)
+            for thing in (marks.raised(bend), marks.least(bend), sums.scaled(bend, 2), sums.plus(bend, bend)):
+                self.check_plain((thing.degree, thing.marks, thing.handles))
+            for thing in (sums.area(bend), zeros.sign_row(bend), zeros.places(bend)):
+                self.check_plain(thing)
 
     def test_not_iterable(self):
         for thing in (Bend(1, [0, 1], [0, 1]), errors.Unlike(), errors.InvalidBend([1, 2]), errors.InvalidTime("ab")):
@@ -128,6 +181,18 @@ class Limits(unittest.TestCase):
         longer = value(hill, time)
         self.assertGreater(longer[1], 10 ** 4300)
         self.assertEqual(str(Bend(0, [0, 1], [longer])).count("/"), 1)
+
+    def test_zeros_at_the_limits(self):
+        last = (9999, 9998)
+        handles = [-9999, (1, 9999), (-1, 9999), 9999, -1, (1, 9998), 0, -7]
+        bend = Bend(4, [0, (1, 9999), (9997, 9998), 1, last], handles)
+        found = zeros.places(bend)
+        self.assertIs(zeros.places_hold(bend, found), True)
+        self.assertEqual(len(found), zeros.sign_row(bend).count(0))
+        low, high = zeros.first_zero(bend, (1, 999999999))
+        signs = [support.curve(bend, support.frac(time)) > 0 for time in (low, high)]
+        self.assertEqual(signs, [False, True])
+        self.assertIs(zeros.places_hold(bend, ((low, high),) + found[1:]), True)
 
     def test_high_degrees(self):
         degree = 12

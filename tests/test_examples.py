@@ -5,7 +5,10 @@ import pathlib
 import unittest
 
 from handlebends.bends import Bend, homes, reach, value, weights
+from handlebends.marks import cut, joined, least, lowered, raised, same, with_mark, without_mark
 from handlebends.pieces import from_pieces, pieces, smoothness
+from handlebends.sums import area, area_to, minus, product, slope
+from handlebends.zeros import crossings, places_hold, sign_row, touches
 
 NOUGHT, DIP = Bend(0, [0, 2], [0]), Bend(2, [0, 2], [2, -1, 2])
 TOUCH, DEEP = Bend(2, [0, 2], [1, -1, 1]), Bend(2, [0, 2], [1, -3, 1])
@@ -18,6 +21,7 @@ class Examples(unittest.TestCase):
         self.assertEqual([value(NOUGHT, time) for time in (0, 1, 2)], [(0, 1)] * 3)
         self.assertEqual([value(TOUCH, time) for time in (0, (1, 2), 1, 2)], [(1, 1), (1, 4), (0, 1), (1, 1)])
         self.assertEqual(value(DEEP, 1), (-1, 1))
+        self.assertEqual((sign_row(TOUCH), sign_row(DEEP), crossings(DEEP)), ((1, 0, 1), (1, 0, -1, 0, 1), 2))
 
     def test_bends(self):
         self.assertEqual(
@@ -25,12 +29,38 @@ class Examples(unittest.TestCase):
             ("bend 2 marks 0 2 handles 1 -1 1", ((0, 1), (1, 1), (2, 1)), ((1, 4), (5, 8), (1, 8), (0, 1)),
              ((0, 1), (1, 1)), (1, 2)))
 
+    def test_marks(self):
+        self.assertEqual(
+            (with_mark(TOUCH, 1).handles, [str(part) for part in cut(TOUCH, 1)], raised(TOUCH).handles),
+            (((1, 1), (0, 1), (0, 1), (1, 1)), ["bend 2 marks 0 1 handles 1 0 0", "bend 2 marks 1 2 handles 0 0 1"],
+             ((1, 1), (-1, 3), (-1, 3), (1, 1))))
+        self.assertEqual(
+            (without_mark(with_mark(TOUCH, 1), 1) == TOUCH, without_mark(TENT, 1), lowered(TOUCH),
+             least(raised(with_mark(TOUCH, 1))) == TOUCH),
+            (True, None, None, True))
+        left, right = cut(TOUCH, 1)
+        self.assertEqual((joined(left, right) == TOUCH, same(with_mark(TOUCH, 1), TOUCH), with_mark(TOUCH, 1) == TOUCH),
+                         (True, True, False))
+
     def test_pieces(self):
-        marked = Bend(2, [0, 1, 2], [1, 0, 0, 1])
+        marked = with_mark(TOUCH, 1)
         self.assertEqual(
             (pieces(TOUCH), from_pieces(pieces(TENT)) == TENT, smoothness(TENT, 1), smoothness(marked, 1)),
             ((((0, 1), (2, 1), ((1, 1), (-2, 1), (1, 1))),), True, 0, None))
         self.assertEqual(from_pieces(pieces(marked)), TOUCH)
+
+    def test_sums(self):
+        line = Bend(1, [0, 2], [-1, 1])
+        self.assertEqual(
+            (str(slope(TOUCH)), area(TOUCH), product(line, line) == TOUCH, str(area_to(slope(TOUCH)))),
+            ("bend 1 marks 0 2 handles -2 2", (2, 3), True, "bend 2 marks 0 2 handles 0 -2 0"))
+        self.assertEqual(minus(DEEP, TOUCH), Bend(2, [0, 2], [0, -2, 0]))
+
+    def test_zeros(self):
+        self.assertEqual(
+            (touches(TOUCH), sign_row(TENT), places_hold(DEEP, [((0, 1), (1, 1)), ((1, 1), (2, 1))]),
+             places_hold(TOUCH, (((1, 1), (1, 1)),)), places_hold(DEEP, (((0, 1), (2, 1)),))),
+            (1, (0, 1, 0), False, True, False))
 
     def test_readme(self):
         readme = pathlib.Path(__file__).resolve().parent.parent / "README.md"

@@ -1,6 +1,7 @@
 """The interface at the end of the document, and the plainest rules for the files of the package."""
 
 import ast
+import builtins
 import importlib
 import inspect
 import pathlib
@@ -15,7 +16,13 @@ INTERFACE = {
                "NoMark": ["time"], "Refused": ["at"]},
     "bends": {"Bend": ["degree", "marks", "handles"], "value": ["bend", "time"],
               "weights": ["degree", "marks", "time"], "reach": ["degree", "marks", "i"], "homes": ["bend"]},
+    "marks": {"with_mark": ["bend", "time"], "without_mark": ["bend", "time"], "raised": ["bend"], "lowered": ["bend"],
+              "cut": ["bend", "time"], "least": ["bend"], "same": ["p", "q"], "joined": ["p", "q"]},
     "pieces": {"pieces": ["bend"], "from_pieces": ["rows"], "smoothness": ["bend", "time"]},
+    "sums": {"plus": ["p", "q"], "minus": ["p", "q"], "product": ["p", "q"], "scaled": ["bend", "number"],
+             "slope": ["bend"], "area": ["bend"], "area_to": ["bend"]},
+    "zeros": {"sign_row": ["bend"], "crossings": ["bend"], "touches": ["bend"], "places": ["bend"],
+              "places_hold": ["bend", "value"], "first_zero": ["bend", "near"]},
 }
 METHODS = {("bends", "Bend"): ["__init__", "read", "__len__", "__eq__", "__str__"]}
 LIBRARY = {"math": {"gcd", "lcm", "isqrt", "comb", "perm", "factorial"}}
@@ -91,6 +98,38 @@ class Rules(unittest.TestCase):
         defined = {node.name for node in body if isinstance(node, (ast.FunctionDef, ast.ClassDef))}
         defined |= {target.id for node in body if isinstance(node, ast.Assign) for target in node.targets}
         self.assertLessEqual(names, defined)
+
+    def test_needs_only_earlier_modules(self):
+        order = list(INTERFACE)
+        for module in order:
+            for needed in self.all_needed(module):
+                self.assertTrue(needed not in order or order.index(needed) < order.index(module), (module, needed))
+
+    def all_needed(self, module):
+        """The modules of the package that a module imports from, straight or through others."""
+        body = ast.parse((PACKAGE / f"{module}.py").read_text("utf-8")).body
+        straight = {node.module.split(".")[1] for node in body
+                    if isinstance(node, ast.ImportFrom) and node.module.startswith("handlebends.")}
+        return straight.union(*[self.all_needed(other) for other in straight])
+
+    def test_names(self):
+        """No function, parameter or variable has the name of an import, a class or a builtin."""
+        for path, tree in trees().items():
+            imports = {alias.name for node in tree.body if isinstance(node, ast.ImportFrom) for alias in node.names}
+            classes = {node.name for node in tree.body if isinstance(node, ast.ClassDef)}
+            stored = [node for node in ast.walk(tree) if isinstance(node, ast.Name) and isinstance(node.ctx, ast.Store)]
+            bound = [node.id for node in stored if node.id != "_"]
+            bound += [node.arg for node in ast.walk(tree) if isinstance(node, ast.arg)]
+            bound += [node.name for node in tree.body if isinstance(node, ast.FunctionDef)]
+            self.assertFalse(set(bound) & (imports | classes | set(dir(builtins))), path)
+            defined = [node.name for node in tree.body if isinstance(node, (ast.FunctionDef, ast.ClassDef))]
+            self.assertEqual(len(defined), len(set(defined)), path)
+
+    def test_all_imports_are_used(self):
+        for path, tree in trees().items():
+            imports = {alias.name for node in tree.body if isinstance(node, ast.ImportFrom) for alias in node.names}
+            used = {node.id for node in ast.walk(tree) if isinstance(node, ast.Name)}
+            self.assertLessEqual(imports, used, path)
 
     def test_no_warnings(self):
         with warnings.catch_warnings():

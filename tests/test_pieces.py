@@ -10,23 +10,6 @@ from handlebends.pieces import from_pieces, pieces, smoothness
 import support
 
 
-def agreeing(left, right, t):
-    """How many first slopes of two polynomials agree at a time, None if all do."""
-    many = max(len(left), len(right))
-    both = zip((support.slopes(left, t) + [0] * many)[:many], (support.slopes(right, t) + [0] * many)[:many])
-    return next((k for k, (a, b) in enumerate(both) if a != b), None)
-
-
-def least_marks(rows):
-    """The degree and the marks of the least form of pieces, by [10]."""
-    degree = max([k for row in rows for k, worth in enumerate(row[2]) if support.frac(worth)], default=0)
-    marks = [support.frac(rows[0][0])]
-    for early, late in zip(rows, rows[1:]):
-        many = agreeing(early[2], late[2], support.frac(late[0]))
-        marks += [support.frac(late[0])] * (0 if many is None else degree - many)
-    return degree, tuple(support.pair_of(mark) for mark in marks + [support.frac(rows[-1][1])])
-
-
 class Pieces(unittest.TestCase):
     def test_told(self):
         self.assertEqual(pieces(Bend(2, [0, 2], [1, -1, 1])), (((0, 1), (2, 1), ((1, 1), (-2, 1), (1, 1))),))
@@ -85,7 +68,7 @@ class FromPieces(unittest.TestCase):
         for bend in support.many_bends():
             rows = pieces(bend)
             found = from_pieces(rows)
-            self.assertEqual((found.degree, found.marks), least_marks(rows), str(bend))
+            self.assertEqual((found.degree, found.marks), support.least_marks(rows), str(bend))
             self.check_same_curve(found, rows)
             self.assertEqual(from_pieces(pieces(found)), found)
 
@@ -112,7 +95,7 @@ class FromPieces(unittest.TestCase):
     def test_degrees_may_differ(self):
         rows = [(0, 1, [0, 0, 0, 0, 1]), (1, 2, [1]), (2, 3, [-1, 1, 0]), (3, 4, [(1, 2), (1, 2)])]
         bend = from_pieces(rows)
-        self.assertEqual((bend.degree, bend.marks), least_marks(rows))
+        self.assertEqual((bend.degree, bend.marks), support.least_marks(rows))
         self.check_same_curve(bend, rows)
 
     def test_many_rows(self):
@@ -207,7 +190,7 @@ class Smoothness(unittest.TestCase):
         for bend in support.many_bends():
             rows = pieces(bend)
             for early, late in zip(rows, rows[1:]):
-                wanted = agreeing(early[2], late[2], support.frac(late[0]))
+                wanted = support.agreeing(early[2], late[2], support.frac(late[0]))
                 self.assertEqual(smoothness(bend, late[0]), wanted, str(bend))
 
     def test_between_marks(self):
