@@ -80,14 +80,18 @@ def knots_of(degree, marks):
     return (row[0],) * degree + row + (row[-1],) * degree
 
 
+def is_time(marks, thing):
+    """Tell whether any value at all is a time of the stretch, with its ends."""
+    if not is_value(thing):
+        return False
+    return not is_less(pair(thing), pair(marks[0])) and not is_less(pair(marks[-1]), pair(thing))
+
+
 def time_within(marks, time):
     """Return a time of the stretch, with its ends, as a pair."""
-    if not is_value(time):
+    if not is_time(marks, time):
         raise InvalidTime(time)
-    when = pair(time)
-    if is_less(when, pair(marks[0])) or is_less(pair(marks[-1]), when):
-        raise InvalidTime(time)
-    return when
+    return pair(time)
 
 
 def time_inside(marks, time):

@@ -79,9 +79,13 @@ def _marks_wanted(degree, left, right, when):
 
 def drawn(degree, marks, rows):
     """Return the bend of a degree and marks, which are enough for them, with these triples."""
+    return Bend(degree, marks, drawn_handles(degree, marks, rows))
+
+
+def drawn_handles(degree, marks, rows):
+    """Return the handles of the bend of a degree and marks, which are enough for them, with these triples."""
     knots = knots_of(degree, marks)
     powers_from = {row[0]: row[2] for row in rows}
     # A handle is the polar form, at the knots inside its reach, of any piece there: here of the first one.
-    handles = [polar_value(powers_from[knots[i]], knots[i + 1:i + 1 + degree])
-               for i in range(handle_count(degree, marks))]
-    return Bend(degree, marks, handles)
+    return [polar_value(powers_from[knots[i]], knots[i + 1:i + 1 + degree])
+            for i in range(handle_count(degree, marks))]

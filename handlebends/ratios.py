@@ -70,11 +70,34 @@ def divided(a, b):
     return ratio(a[0] * b[1], a[1] * b[0])
 
 
+def inverted(a):
+    """Return 1 / a, for an a that is not 0."""
+    return (a[1], a[0]) if a[0] > 0 else (-a[1], -a[0])
+
+
+def negated(a):
+    """Return -a."""
+    return (-a[0], a[1])
+
+
+def size_of(a):
+    """Return a without its sign."""
+    return (abs(a[0]), a[1])
+
+
 def total(worths):
     """Return all of these pairs together."""
     result = ZERO
     for worth in worths:
         result = added(result, worth)
+    return result
+
+
+def least_of(worths):
+    """Return the least one of at least one pair."""
+    result = worths[0]
+    for worth in worths[1:]:
+        result = worth if is_less(worth, result) else result
     return result
 
 

@@ -94,6 +94,15 @@ def _roots_between(chain, low, high):
     return _changes(chain, low) - _changes(chain, high) - behind
 
 
+def is_simple_root(powers, whole, low, high):
+    """Tell whether the only root of a polynomial in pairs between two times, which are no roots, is one just once.
+
+    The second polynomial has the same roots, each of them once, and the numbers in it have no common divisor.
+    """
+    rest = _quotient(whole_powers(powers), whole)
+    return root_ranges(chain_of([(n, 1) for n in rest]), low, high) == []
+
+
 def root_ranges(chain, low, high):
     """Return pairs of times, ascending, one for each root between two times, without both.
 

@@ -32,10 +32,10 @@ def touches(bend):
 
 def places(bend):
     """Return pairs of times, one for each zero place."""
-    return tuple([(low, high) for low, high, _ in _found_places(bend)])
+    return tuple([(low, high) for low, high, _ in found_places(bend)])
 
 
-def _found_places(bend):
+def found_places(bend):
     """Return triples (low, high, whole), ascending, one for each zero place.
 
     `whole` is None for a stretch, and for a time that is told twice. Else it is a polynomial in integers that has the
@@ -65,7 +65,7 @@ def _inner_places(start, end, powers):
 
 def places_hold(bend, value):
     """Tell whether any value at all is right as `places` of a bend."""
-    found = _found_places(bend)
+    found = found_places(bend)
     if not isinstance(value, tuple) or len(value) != len(found):
         return False
     return all([_is_told(bend, found, at, thing) for at, thing in enumerate(value)])
@@ -103,7 +103,7 @@ def _begins_behind(place, when):
 
 def first_zero(bend, near):
     """Return a pair for the first zero place, nearer than told if it is a time, or None if there is none."""
-    found = _found_places(bend)
+    found = found_places(bend)
     if not found:
         return None
     low, high, whole = found[0]

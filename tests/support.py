@@ -170,3 +170,43 @@ def many_bends():
             for degree in range(5)
             for marks in mark_rows(degree)
             for handles in handle_rows(degree + len(marks) - 1)]
+
+
+def over_one_stretch(low, high, step):
+    """Bends of the degrees 0 to 4 from one time to another one, with marks here and there."""
+    low, high = Fraction(low), Fraction(high)
+    places = [low + (high - low) * Fraction(k, 7) for k in (1, 3, 4, 6)]
+    found = []
+    for degree in range(5):
+        rows = [[], [places[1]], places[:2], [places[2]] * degree, [places[0]] + [places[1]] * (degree - 1)]
+        for inner in rows if degree else rows[:1]:
+            marks = [pair_of(mark) for mark in [low] + inner + [high]]
+            found += [Bend(degree, marks, row) for row in handle_rows(degree + len(marks) - 1)[1:8]]
+    return found[::step]
+
+
+def values_told(thing):
+    """A tuple of values as Fractions, None for any other value at all."""
+    if type(thing) is not tuple:
+        return None
+    found = []
+    for part in thing:
+        if type(part) is int:
+            part = (part, 1)
+        if type(part) is not tuple or [type(n) for n in part] != [int, int] or part[1] < 1:
+            return None
+        if pair_of(frac(part)) != part:
+            return None
+        found.append(frac(part))
+    return found
+
+
+def is_pair(thing):
+    """Whether a thing is a value as values are returned: a pair in lowest terms."""
+    return type(thing) is tuple and len(thing) == 2 and values_told((thing,)) is not None
+
+
+def slopes_of(bend):
+    """For each piece its start, its end and the powers of its slope, in Fractions."""
+    return [(frac(start), frac(end), [k * frac(worth) for k, worth in enumerate(powers)][1:] or [Fraction(0)])
+            for start, end, powers in pieces(bend)]

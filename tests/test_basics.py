@@ -2,7 +2,7 @@
 
 import unittest
 
-from handlebends import errors, marks, pieces, sums, zeros
+from handlebends import deciding, errors, marks, papers, pieces, points, sums, zeros
 from handlebends.bends import Bend, homes, reach, value, weights
 from handlebends.pieces import from_pieces, smoothness
 
@@ -21,7 +21,6 @@ class Names(unittest.TestCase):
         self.assertEqual(homes(bend=bend), ((0, 1), (1, 1), (2, 1)))
         self.assertEqual(from_pieces(rows=pieces.pieces(bend=bend)), bend)
         self.assertEqual(smoothness(time=1, bend=bend), 0)
-
 
     def test_marks_sums_and_zeros(self):
         bend, line = Bend(2, [0, 1, 2], [1, 0, 0, 1]), Bend(1, [0, 2], [-1, 1])
@@ -43,16 +42,44 @@ class Names(unittest.TestCase):
         self.assertIs(zeros.places_hold(value=((1, 1),), bend=bend), True)
         self.assertEqual(zeros.first_zero(near=(1, 5), bend=bend), zeros.first_zero(bend, (1, 5)))
 
+    def test_deciding_papers_and_points(self):
+        bend, low = Bend(2, [0, 1, 2], [1, 0, 0, 1]), Bend(1, [0, 2], [-1, 0])
+        for name, wanted in (("is_above", True), ("never_below", True), ("below_at", None)):
+            self.assertIs(getattr(deciding, name)(q=low, p=bend), wanted)
+        self.assertEqual(deciding.below_at(q=bend, p=low), deciding.below_at(low, bend))
+        for name, wanted in (("rises", False), ("rises_always", False), ("bends_up", True)):
+            self.assertIs(getattr(deciding, name)(bend=bend), wanted)
+        self.assertEqual(deciding.least_within(near=1, bend=bend), deciding.least_within(bend, (1, 1)))
+        for ask in (papers.cover, papers.count):
+            self.assertEqual(ask(bend=bend), ask(bend))
+        self.assertIs(papers.count_holds(value=(), bend=bend), True)
+        self.assertIs(papers.cover_holds(value=(), bend=bend), False)
+        degree, row, good, bad = 1, [0, 1, 2], [0, 1, 2], [0, (1, 2), 1]
+        self.assertIs(points.can_pass(times=good, marks=row, degree=degree), True)
+        self.assertEqual(points.passing(heights=good, times=good, marks=row, degree=degree), Bend(degree, row, good))
+        self.assertEqual(points.barred(times=bad, marks=row, degree=degree), points.barred(degree, row, bad))
+        self.assertIs(points.bar_holds(value=(1, -2, 1), times=bad, marks=row, degree=degree), True)
+
 
 def all_asked(bend, other):
-    """What the functions of marks, sums and zeros tell of a bend and another one over its stretch."""
+    """What the functions up to points tell of a bend and another one over its stretch."""
     middle = support.pair_of((support.frac(bend.marks[0]) + support.frac(bend.marks[-1])) / 2)
     found = [marks.raised(bend), marks.lowered(bend), marks.least(bend), *marks.cut(bend, middle), sums.area_to(bend),
              sums.plus(bend, other), sums.minus(bend, other), sums.product(bend, other), sums.scaled(bend, (2, 3))]
     if bend.marks.count(middle) < bend.degree:
         found += [marks.with_mark(bend, middle), marks.without_mark(marks.with_mark(bend, middle), middle)]
     told = [marks.same(bend, other), sums.area(bend), zeros.sign_row(bend), zeros.crossings(bend), zeros.touches(bend),
-            zeros.places(bend), zeros.places_hold(bend, zeros.places(bend)), zeros.first_zero(bend, (1, 9))]
+            zeros.places(bend), zeros.places_hold(bend, zeros.places(bend)), zeros.first_zero(bend, (1, 9)),
+            deciding.is_above(bend, other), deciding.never_below(bend, other), deciding.below_at(bend, other),
+            deciding.rises(bend), deciding.rises_always(bend), deciding.bends_up(bend),
+            deciding.least_within(bend, (1, 9)), papers.cover(bend), papers.cover_holds(bend, papers.cover(bend)),
+            papers.count(bend), papers.count_holds(bend, papers.count(bend))]
+    shape = bend.degree, bend.marks
+    times = [(support.frac(mark) * 2 + support.frac(bend.marks[0])) / 3 for mark in bend.marks[1:]]
+    for row in (homes(bend), [support.pair_of(t) for t in sorted(set(times))]):
+        if len(row) == len(bend):
+            told += [points.can_pass(*shape, row), points.barred(*shape, row), points.bar_holds(*shape, row, (1, -1))]
+            found.append(points.passing(*shape, row, bend.handles))
     return [str(part) for part in found], told
 
 
@@ -100,6 +127,23 @@ class Unchanged(unittest.TestCase):
             kept = repr(paper)
             self.assertIs(zeros.places_hold(bend, paper), False)
             self.assertEqual(repr(paper), kept)
+
+    def test_papers_and_points_are_not_changed(self):
+        bend = Bend(1, [0, 2], [-1, 1])
+        for paper in ([1], ([1],), [(1, 2)], [], [[], [None]], ((1, 2), [1])):
+            kept = repr(paper)
+            self.assertIs(papers.cover_holds(bend, paper), False)
+            self.assertIs(papers.count_holds(bend, paper), False)
+            self.assertIs(points.bar_holds(1, [0, 2], [0, 2], paper), False)
+            self.assertEqual(repr(paper), kept)
+        row, times, heights = [0, (1, 2), 2], [0, 1, 2], [3, (1, 2), 4]
+        kept = repr((row, times, heights))
+        first = points.passing(1, row, times, heights)
+        points.can_pass(1, row, times), points.barred(1, row, times), points.bar_holds(1, row, times, (1, 1, 1))
+        self.assertEqual(repr((row, times, heights)), kept)
+        text = str(first)
+        times[1], heights[1], row[1] = (3, 2), 7, 1
+        self.assertEqual(str(first), text)
 
     def test_wrong_arguments_are_not_changed(self):
         for make in (lambda thing: Bend(1, thing, [0]), lambda thing: from_pieces(thing), Bend.read):

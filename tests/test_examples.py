@@ -5,8 +5,11 @@ import pathlib
 import unittest
 
 from handlebends.bends import Bend, homes, reach, value, weights
+from handlebends.deciding import below_at, bends_up, is_above, never_below, rises, rises_always
 from handlebends.marks import cut, joined, least, lowered, raised, same, with_mark, without_mark
+from handlebends.papers import count_holds, cover, cover_holds
 from handlebends.pieces import from_pieces, pieces, smoothness
+from handlebends.points import bar_holds, can_pass, passing
 from handlebends.sums import area, area_to, minus, product, slope
 from handlebends.zeros import crossings, places_hold, sign_row, touches
 
@@ -21,7 +24,10 @@ class Examples(unittest.TestCase):
         self.assertEqual([value(NOUGHT, time) for time in (0, 1, 2)], [(0, 1)] * 3)
         self.assertEqual([value(TOUCH, time) for time in (0, (1, 2), 1, 2)], [(1, 1), (1, 4), (0, 1), (1, 1)])
         self.assertEqual(value(DEEP, 1), (-1, 1))
-        self.assertEqual((sign_row(TOUCH), sign_row(DEEP), crossings(DEEP)), ((1, 0, 1), (1, 0, -1, 0, 1), 2))
+        self.assertIs(is_above(DIP, NOUGHT), True)
+        self.assertEqual(
+            (sign_row(TOUCH), never_below(TOUCH, NOUGHT), is_above(TOUCH, NOUGHT), sign_row(DEEP), crossings(DEEP)),
+            ((1, 0, 1), True, False, (1, 0, -1, 0, 1), 2))
 
     def test_bends(self):
         self.assertEqual(
@@ -61,6 +67,25 @@ class Examples(unittest.TestCase):
             (touches(TOUCH), sign_row(TENT), places_hold(DEEP, [((0, 1), (1, 1)), ((1, 1), (2, 1))]),
              places_hold(TOUCH, (((1, 1), (1, 1)),)), places_hold(DEEP, (((0, 1), (2, 1)),))),
             (1, (0, 1, 0), False, True, False))
+
+    def test_deciding(self):
+        self.assertEqual(
+            (bends_up(TOUCH), bends_up(TENT), below_at(TOUCH, NOUGHT), value(DEEP, below_at(DEEP, NOUGHT))[0] < 0,
+             rises(Bend(2, [0, 2], [0, 0, 1])), rises_always(Bend(1, [0, 1, 2], [0, 1, 1]))),
+            (True, False, None, True, True, False))
+
+    def test_papers(self):
+        self.assertEqual(
+            (cover_holds(DIP, ()), cover_holds(DIP, ((1, 1),)), cover(TOUCH), count_holds(DEEP, ()),
+             count_holds(DEEP, ((1, 1),))),
+            (False, True, None, False, True))
+
+    def test_points(self):
+        self.assertEqual(
+            (can_pass(2, [0, 1, 2], [0, (1, 2), 1, 2]), can_pass(2, [0, 1, 2], [0, (1, 4), (1, 2), (3, 4)]),
+             passing(1, [0, 1, 2], [0, 1, 2], [0, 1, 0]) == TENT),
+            (True, False, True))
+        self.assertIs(bar_holds(2, [0, 1, 2], [0, (1, 4), (1, 2), (3, 4)], (1, -3, 3, -1)), True)
 
     def test_readme(self):
         readme = pathlib.Path(__file__).resolve().parent.parent / "README.md"

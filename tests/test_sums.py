@@ -15,23 +15,10 @@ TOUCH, TENT = Bend(2, [0, 2], [1, -1, 1]), Bend(1, [0, 1, 2], [0, 1, 0])
 LINE = Bend(1, [0, 2], [-1, 1])
 
 
-def over_one_stretch(low, high, step):
-    """Bends of the degrees 0 to 4 from one time to another one, with marks here and there."""
-    low, high = Fraction(low), Fraction(high)
-    places = [low + (high - low) * Fraction(k, 7) for k in (1, 3, 4, 6)]
-    found = []
-    for degree in range(5):
-        rows = [[], [places[1]], places[:2], [places[2]] * degree, [places[0]] + [places[1]] * (degree - 1)]
-        for inner in rows if degree else rows[:1]:
-            marks = [support.pair_of(mark) for mark in [low] + inner + [high]]
-            found += [Bend(degree, marks, row) for row in support.handle_rows(degree + len(marks) - 1)[1:8]]
-    return found[::step]
-
-
 class Pairs(unittest.TestCase):
     def check_rule(self, ask, rule, step):
         for low, high in ((0, 2), (Fraction(-7, 3), 5)):
-            some = over_one_stretch(low, high, step)
+            some = support.over_one_stretch(low, high, step)
             for p in some:
                 for q in some:
                     found = ask(p, q)
@@ -207,7 +194,7 @@ class Area(unittest.TestCase):
 
 class Together(unittest.TestCase):
     def test_laws(self):
-        some = over_one_stretch(0, 2, 11)
+        some = support.over_one_stretch(0, 2, 11)
         for p, q, r in zip(some, some[3:], some[7:]):
             self.assertEqual(plus(p, q), plus(q, p))
             self.assertEqual(minus(p, q), scaled(minus(q, p), -1))

@@ -37,18 +37,8 @@ def twice(times):
 
 def pair_told(thing):
     """A tuple of two values as Fractions, None for any other value at all."""
-    if type(thing) is not tuple or len(thing) != 2:
-        return None
-    found = []
-    for part in thing:
-        if type(part) is int:
-            part = (part, 1)
-        if type(part) is not tuple or [type(n) for n in part] != [int, int] or part[1] < 1:
-            return None
-        if support.pair_of(support.frac(part)) != part:
-            return None
-        found.append(support.frac(part))
-    return tuple(found)
+    found = support.values_told(thing)
+    return tuple(found) if found is not None and len(found) == 2 else None
 
 
 class Signs(unittest.TestCase):
