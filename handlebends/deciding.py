@@ -34,21 +34,13 @@ def below_at(p, q):
 
 def rises(bend):
     """Tell whether the curve is nowhere lower at a later time."""
-    return -1 not in _slope_signs(bend)
+    return all([-1 not in row for row in _slope_rows(rows_of(bend))])
 
 
 def rises_always(bend):
     """Tell whether the curve is higher at each later time."""
     # A slope of 0 at some times by themselves does no harm, but one all along a piece does.
     return all([1 in row and -1 not in row for row in _slope_rows(rows_of(bend))])
-
-
-def _slope_signs(bend):
-    """Return the signs of the slopes of all pieces, one piece behind the other."""
-    signs = []
-    for row in _slope_rows(rows_of(bend)):
-        signs.extend(row)
-    return signs
 
 
 def _slope_rows(rows):

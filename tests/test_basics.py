@@ -2,7 +2,7 @@
 
 import unittest
 
-from handlebends import deciding, errors, marks, papers, pieces, points, sums, zeros
+from handlebends import deciding, errors, marks, movers, nearest, papers, pieces, points, sums, zeros
 from handlebends.bends import Bend, homes, reach, value, weights
 from handlebends.pieces import from_pieces, smoothness
 
@@ -59,6 +59,14 @@ class Names(unittest.TestCase):
         self.assertEqual(points.passing(heights=good, times=good, marks=row, degree=degree), Bend(degree, row, good))
         self.assertEqual(points.barred(times=bad, marks=row, degree=degree), points.barred(degree, row, bad))
         self.assertIs(points.bar_holds(value=(1, -2, 1), times=bad, marks=row, degree=degree), True)
+
+    def test_nearest(self):
+        some = [(0, 0), (1, 1), (2, 0)]
+        paper = nearest.weighing(value=(1, 2), points=some, marks=[0, 2], degree=1)
+        self.assertEqual(paper, ((-1, 4), (1, 2), (-1, 4)))
+        self.assertIs(nearest.weighing_holds(paper=paper, value=(1, 2), points=some, marks=[0, 2], degree=1), True)
+        self.assertEqual(nearest.least_miss(points=some, marks=[0, 2], degree=1), (1, 2))
+        self.assertEqual(nearest.nearest(points=some, marks=[0, 2], degree=1), Bend(1, [0, 2], [(1, 2), (1, 2)]))
 
 
 def all_asked(bend, other):
@@ -119,7 +127,10 @@ class Unchanged(unittest.TestCase):
             first = all_asked(bend, other)
             self.assertEqual((str(bend), str(other), repr(bend.marks), repr(bend.handles)), kept)
             all_asked(other, bend)
+            mover, another = movers.Mover(bend, other), movers.Mover(other, other)
+            movers.apart(mover, another), movers.meetings(mover, another), movers.never_nearer(mover, another, 1)
             self.assertEqual(all_asked(bend, other), first)
+            self.assertEqual((str(bend), str(other), repr(bend.marks), repr(bend.handles)), kept)
 
     def test_papers_are_not_changed(self):
         bend = Bend(1, [0, 2], [-1, 1])
@@ -144,6 +155,18 @@ class Unchanged(unittest.TestCase):
         text = str(first)
         times[1], heights[1], row[1] = (3, 2), 7, 1
         self.assertEqual(str(first), text)
+
+    def test_points_and_weighings_are_not_changed(self):
+        row, some, paper = [0, 2], [(0, 0), (1, 1), (2, 0)], [(-1, 4), (1, 2), (-1, 4)]
+        kept = repr((row, some, paper))
+        found = nearest.nearest(1, row, some)
+        self.assertIs(nearest.weighing_holds(1, row, some, (1, 2), paper), False)
+        self.assertEqual(nearest.weighing(1, row, some, (1, 2)), tuple(paper))
+        self.assertEqual(nearest.least_miss(1, row, some), (1, 2))
+        self.assertEqual(repr((row, some, paper)), kept)
+        some.pop()
+        row[1] = 3
+        self.assertEqual(str(found), "bend 1 marks 0 2 handles 1/2 1/2")
 
     def test_wrong_arguments_are_not_changed(self):
         for make in (lambda thing: Bend(1, thing, [0]), lambda thing: from_pieces(thing), Bend.read):

@@ -6,7 +6,10 @@ import unittest
 
 from handlebends.bends import Bend, homes, reach, value, weights
 from handlebends.deciding import below_at, bends_up, is_above, never_below, rises, rises_always
+from handlebends.desk import Desk
 from handlebends.marks import cut, joined, least, lowered, raised, same, with_mark, without_mark
+from handlebends.movers import Mover, apart, meetings, nearer_at, never_nearer
+from handlebends.nearest import least_miss, nearest, weighing_holds
 from handlebends.papers import count_holds, cover, cover_holds
 from handlebends.pieces import from_pieces, pieces, smoothness
 from handlebends.points import bar_holds, can_pass, passing
@@ -86,6 +89,29 @@ class Examples(unittest.TestCase):
              passing(1, [0, 1, 2], [0, 1, 2], [0, 1, 0]) == TENT),
             (True, False, True))
         self.assertIs(bar_holds(2, [0, 1, 2], [0, (1, 4), (1, 2), (3, 4)], (1, -3, 3, -1)), True)
+
+    def test_nearest(self):
+        some = [(0, 0), (1, 1), (2, 0)]
+        self.assertEqual(
+            (least_miss(1, [0, 2], some), str(nearest(1, [0, 2], some)), least_miss(1, [0, 1, 2], some),
+             weighing_holds(1, [0, 2], some, (1, 2), ((-1, 4), (1, 2), (-1, 4)))),
+            ((1, 2), "bend 1 marks 0 2 handles 1/2 1/2", (0, 1), True))
+
+    def test_movers(self):
+        one = Bend(0, [0, 2], [1])
+        runs, stands = Mover(Bend(1, [0, 2], [0, 2]), NOUGHT), Mover(one, one)
+        self.assertEqual(
+            (str(apart(runs, stands)), never_nearer(runs, stands, 1), never_nearer(runs, stands, (11, 10)),
+             nearer_at(runs, stands, 1), meetings(runs, stands)),
+            ("bend 2 marks 0 2 handles 2 0 2", True, False, None, 0))
+
+    def test_desk(self):
+        desk = Desk()
+        said = ("bend 2 marks 0 2 handles 1 -1 1", "signs", "pull 1 -3", "value 1", "mark 1", "least", "unmark 1",
+                "undo", "undo")
+        self.assertEqual(
+            [desk.say(word) for word in said],
+            ["3", "+0+", "+0-0+", "-1", "+0-0+", "bend 2 marks 0 2 handles 1 -3 1", "done", "+0-0+", "+0-0+"])
 
     def test_readme(self):
         readme = pathlib.Path(__file__).resolve().parent.parent / "README.md"

@@ -29,8 +29,22 @@ INTERFACE = {
                "count_holds": ["bend", "value"]},
     "points": {"can_pass": ["degree", "marks", "times"], "passing": ["degree", "marks", "times", "heights"],
                "barred": ["degree", "marks", "times"], "bar_holds": ["degree", "marks", "times", "value"]},
+    "nearest": {"least_miss": ["degree", "marks", "points"], "nearest": ["degree", "marks", "points"],
+                "weighing": ["degree", "marks", "points", "value"],
+                "weighing_holds": ["degree", "marks", "points", "value", "paper"]},
+    "movers": {"Mover": ["x", "y"], "apart": ["one", "other"], "never_nearer": ["one", "other", "distance"],
+               "nearer_at": ["one", "other", "distance"], "meetings": ["one", "other"]},
+    "live": {"Live": ["bend"]},
+    "desk": {"Desk": []},
 }
-METHODS = {("bends", "Bend"): ["__init__", "read", "__len__", "__eq__", "__str__"]}
+# The methods of each class, with their arguments behind the object where they have a name in the document.
+METHODS = {
+    ("bends", "Bend"): {"__init__": None, "read": None, "__len__": None, "__eq__": None, "__str__": None},
+    ("movers", "Mover"): {"__init__": None},
+    ("live", "Live"): {"__init__": None, "__len__": None, "bend": None, "signs": None, "pull": ["at", "height"],
+                       "several": ["pulls"], "mark": ["time"], "unmark": ["time"], "undo": [], "within": ["work"]},
+    ("desk", "Desk"): {"__init__": None, "say": ["command"]},
+}
 LIBRARY = {"math": {"gcd", "lcm", "isqrt", "comb", "perm", "factorial"}}
 
 
@@ -58,8 +72,10 @@ class Interface(unittest.TestCase):
     def test_methods_stand_in_the_class_itself(self):
         for (module, name), methods in METHODS.items():
             held = vars(getattr(importlib.import_module(f"handlebends.{module}"), name))
-            for method in methods:
+            for method, parameters in methods.items():
                 self.assertIn(method, held)
+                if parameters is not None:
+                    self.assertEqual(list(inspect.signature(held[method]).parameters)[1:], parameters, method)
         bend = importlib.import_module("handlebends.bends").Bend
         self.assertIsInstance(vars(bend)["read"], classmethod)
         self.assertEqual(list(inspect.signature(bend.read).parameters), ["text"])
